@@ -1,0 +1,1 @@
+"""Annals: a keeper of versions."""
