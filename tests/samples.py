@@ -1,4 +1,6 @@
-"""What several test files hand in: things, and what is none."""
+"""What several test files hand in: stores, things, and what is none."""
+
+from annals.errors import NoName
 
 
 class Odd:
@@ -9,6 +11,25 @@ class Odd:
 
     def __hash__(self):
         raise RuntimeError("hashed")
+
+
+class Base:
+    """A store, or a base, with the three methods that it must have, and no other one."""
+
+    def __init__(self, rows):
+        self.rows = rows
+
+    def has(self, name):
+        return isinstance(name, str) and name in [row[0] for row in self.rows]
+
+    def thing(self, name):
+        for row in self.rows:
+            if row[0] == name:
+                return row[1]
+        raise NoName("none")
+
+    def names(self):
+        return [row[0] for row in self.rows]
 
 
 NO_TEXTS = (None, True, False, 0, 7, 1.5, b"a", [], ["a"], (), ("a",), {}, {"a": "b"}, set(), Odd(), str, len)
@@ -154,3 +175,120 @@ BAD_OTHERS = (
 )
 
 NO_THINGS = NO_TEXTS + BAD_LEAVES + BAD_TREES + BAD_NOTES + BAD_OTHERS
+
+GOOD_PATHS = ("a", "z", "abcdefgh", "a/b", "a/a", "ab/abcdefgh", "a/b/c", "a/b/c/d", "abcdefgh/" * 3 + "abcdefgh")
+
+BAD_PATHS = (
+    "",
+    "/",
+    "//",
+    "/a",
+    "a/",
+    "a//b",
+    "/a/b/c",
+    "a/b/c/",
+    "a/b//c",
+    "a/b/c/d/",
+    "/a/b/c/d",
+    "a/b/c/d/e",
+    "a/b/c/d/e/f",
+    "A",
+    "aB",
+    "a/B",
+    "a/b/c/D",
+    " ",
+    " a",
+    "a ",
+    "a b",
+    "a/b c",
+    "a/ b",
+    "abcdefghi",
+    "a/abcdefghi",
+    "abcdefghi/a",
+    "a1",
+    "a.b",
+    "a\\b",
+    "a/b\n",
+    "a\n",
+    "\u00e9",
+    "a/\u0430",
+)
+
+GOOD_FILES = (
+    {},
+    {"a": ()},
+    {"a": ("",), "b": ("",)},
+    {"a/b/c/d": ("x", "y")},
+    {"abcdefgh/abcdefgh/abcdefgh/abcdefgh": ("a" * 20,) * 50},
+    {"ab": ("x",), "a": ("y",)},
+    {"a/b": ("x",), "ab": ("y",), "abc/b": ()},
+    {"a/bc": ("x",), "a/b": ("y",), "a/bcd/e": ("x",)},
+    {"b/a": ("x",), "a/b": ("y",), "b/c": ("z",), "a/a/a/a": ("x",), "c": ("x",), "a/a/b": ()},
+    {"b": ("x",), "a/b": ("x",), "a/a/b": ("x",), "a/a/a/b": ("x",)},
+    {"x/c": ("same",), "y/c": ("same",), "z/x/c": ("same",)},
+)
+
+BAD_FILES = (
+    # A path and one of its folders, in either order, near and far.
+    {"a": ("x",), "a/b": ("y",)},
+    {"a/b": ("x",), "a": ("y",)},
+    {"a": (), "a/b/c/d": ()},
+    {"a/b/c/d": (), "a": ()},
+    {"a/b": (), "a/b/c/d": ()},
+    {"a/b/c/d": (), "a/b/c": ()},
+    {"a": (), "ab": (), "aa": (), "a/b": ()},
+    {"a/b": (), "ab": (), "b": (), "c/d": (), "aa/b": (), "a": ()},
+    {"a/b/c": (), "a/c": (), "a/bc": (), "a/b": (), "b": ()},
+    # Paths that are none.
+    {"": ()},
+    {"a": ("x",), "/b": ()},
+    {"b/": ()},
+    {"a//b": ()},
+    {"a/b/c/d/e": ()},
+    {"a": (), "B": ()},
+    {"a b": ()},
+    {"a": (), "abcdefghi": ()},
+    {None: ()},
+    {1: ()},
+    {True: ()},
+    {("a",): ()},
+    {"a": (), (): ()},
+    {b"a": ()},
+    {"a": (), None: ()},
+    # Lines that are none.
+    {"a": []},
+    {"a": ["x"]},
+    {"a": ("x",), "b": ["x"]},
+    {"a": "x"},
+    {"a": ""},
+    {"a": None},
+    {"a": {}},
+    {"a": ("x", None)},
+    {"a": ("x", 1)},
+    {"a": (("x",),)},
+    {"a": (["x"],)},
+    {"a": (Odd(),)},
+    {"a": Odd()},
+    {"a": ("x" * 21,)},
+    {"a": ("x\n",)},
+    {"a": ("x", "5%")},
+    {"a": (), "b": ("\t",)},
+    {"a": {"b": ("x",)}},
+    # What is no dict.
+    None,
+    True,
+    0,
+    "",
+    "a",
+    (),
+    ("a", ()),
+    (("a", ()),),
+    [],
+    ["a"],
+    [("a", ())],
+    set(),
+    {"a"},
+    1.5,
+    Odd(),
+    dict,
+)

@@ -39,6 +39,10 @@ FORBIDDEN_NAMES = """
     license locals methodcaller os quit setattr super vars
 """.split()
 
+WALKERS = "zip enumerate reversed range".split()
+WALKED_METHODS = "items keys values".split()
+WALKING = "list tuple dict sorted sum any all enumerate zip".split()
+
 FORBIDDEN_WORDS = re.compile(
     r"\b(type|typing|typing_extensions|enum|Enum|IntEnum|StrEnum|Flag|IntFlag|Generic|Protocol|ABC|ABCMeta"
     r"|namedtuple|NamedTuple|TypedDict|TYPE_CHECKING|abstractmethod)\b|dataclass|overload|contextmanager")
@@ -146,9 +150,83 @@ def faults_of_forms(node):
             yield "L20: is"
 
 
+def is_walker(node):
+    if not isinstance(node, ast.Call):
+        return False
+    if isinstance(node.func, ast.Name):
+        return node.func.id in WALKERS
+    return isinstance(node.func, ast.Attribute) and node.func.attr in WALKED_METHODS
+
+
+def walked_by(node):
+    """What a node walks on the spot, by L23."""
+    if isinstance(node, (ast.For, ast.comprehension)):
+        return [node.iter]
+    if isinstance(node, ast.Call) and isinstance(node.func, ast.Name):
+        if node.func.id in WALKING or (node.func.id in ("min", "max") and len(node.args) == 1):
+            return node.args if node.func.id == "zip" else node.args[:1]
+    if isinstance(node, ast.Call) and isinstance(node.func, ast.Attribute) and node.func.attr == "join":
+        return node.args if isinstance(node.func.value, ast.Constant) else []
+    return []
+
+
+def faults_of_walks(tree):
+    walked = [part for node in ast.walk(tree) for part in walked_by(node)]
+    for node in ast.walk(tree):
+        if is_walker(node) and node not in walked:
+            yield f"line {node.lineno}: L23: not walked on the spot"
+
+
+def faults_of_locals(tree):
+    taken = {alias.name for node in tree.body if isinstance(node, ast.ImportFrom) for alias in node.names}
+    taken.update(node.name for node in tree.body if isinstance(node, (ast.FunctionDef, ast.ClassDef)))
+    for node in ast.walk(tree):
+        bound = isinstance(node, ast.arg) or (isinstance(node, ast.Name) and isinstance(node.ctx, ast.Store))
+        if bound and names_of(node)[0] in taken:
+            yield f"line {node.lineno}: L15: {names_of(node)[0]} is an import, a class or a function of its file"
+
+
+def imports_of(text):
+    """The modules that a file draws from, each with the names that it draws."""
+    return {node.module: [alias.name for alias in node.names]
+            for node in ast.parse(text).body if isinstance(node, ast.ImportFrom)}
+
+
+def bound_at_top(text):
+    found = []
+    for node in ast.parse(text).body:
+        if isinstance(node, (ast.FunctionDef, ast.ClassDef)):
+            found.append(node.name)
+        if isinstance(node, ast.Assign):
+            found.extend(names_of(node.targets[0]))
+    return found
+
+
+def faults_of_drawing(texts):
+    """The package's imports together: from the file that defines the name, and never in a round."""
+    drawn = {module: imports_of(text) for module, text in texts.items()}
+    left = dict(drawn)
+    while left:
+        free = [module for module in left if not any(other in left for other in left[module])]
+        if not free:
+            yield f"L16: {sorted(left)} draw from one another"
+            return
+        left = {module: left[module] for module in left if module not in free}
+    for module, rows in drawn.items():
+        for other, names in rows.items():
+            for name in names:
+                if other != "__future__" and name not in bound_at_top(texts[other]):
+                    yield f"L16: {module} draws {name}, which {other} does not define"
+
+
 def faults_of(text, main):
     yield from faults_of_text(text)
-    for node in ast.walk(ast.parse(text)):
+    tree = ast.parse(text)
+    yield from faults_of_walks(tree)
+    yield from faults_of_locals(tree)
+    for name in sorted({name for name in bound_at_top(text) if bound_at_top(text).count(name) > 1}):
+        yield f"L15: {name} is bound more than once"
+    for node in ast.walk(tree):
         place = f"line {getattr(node, 'lineno', '?')}: "
         for fault in faults_of_names(node, main):
             yield place + fault
@@ -176,12 +254,27 @@ class Language(unittest.TestCase):
                 text = path.read_bytes().decode("utf-8")
                 self.assertEqual(list(faults_of(text, path.name == "__main__.py")), [])
 
+    def test_the_files_draw_from_one_another_by_the_rules(self):
+        texts = {"annals." + path.stem: path.read_text(encoding="utf-8") for path in PACKAGE.glob("*.py")}
+        self.assertEqual(list(faults_of_drawing(texts)), [])
+
+    def test_faults_of_drawing_are_found(self):
+        for texts in ({"annals.a": "from annals.b import f\n", "annals.b": "from annals.a import f\n"},
+                      {"annals.a": "from annals.b import f\n", "annals.b": "from annals.c import f\n",
+                       "annals.c": "def f():\n    return 1\n"}):
+            with self.subTest(texts):
+                self.assertNotEqual(list(faults_of_drawing(texts)), [])
+
     def test_faults_are_found(self):
         for text in ("x = 1.5\n", "x = y = 1\n", "import os\n", "from .a import b\n", "x = f'{1 + 1}'\n",
                      "def f(*a):\n    return 1\n", "def f(list):\n    return 1\n", "x = a is b\n", "x = '5%'\n",
                      "x = 'a'.encode()\n", "x = hash(1)\n", "x = {1: 2 for a in b}\n", "def _f():\n    return 1\n",
                      "# a type\n", "x = '\u00e9'\n", "x = [a for b in c for a in b]\n", "class A:\n    x = 1\n",
-                     "x = " + "1" * 120 + "\n", "def f():\n" + "    x = 1\n" * 40, "x = chr(1)\n"):
+                     "x = " + "1" * 120 + "\n", "def f():\n" + "    x = 1\n" * 40, "x = chr(1)\n",
+                     "def f(n):\n    return reversed(range(n))\n", "def f(d):\n    x = d.items()\n    return x\n",
+                     "def f(n):\n    for x in reversed(range(n)):\n        return x\n",
+                     "from annals.a import b\ndef f(b):\n    return b\n", "def f():\n    f = 1\n    return f\n",
+                     "x = 1\nx = 2\n"):
             with self.subTest(text):
                 self.assertNotEqual(list(faults_of(text, False)), [])
 

@@ -2,7 +2,7 @@
 
 import unittest
 
-from samples import GOOD_LEAVES, NO_TEXTS, NO_THINGS
+from samples import GOOD_LEAVES, NO_TEXTS, NO_THINGS, Base
 
 from annals.errors import NoName, NoThing
 from annals.shelf import Shelf
@@ -14,25 +14,6 @@ LEAF_A = ("leaf", ("a",))
 # These two have the digest of LEAF_A.
 LEAF_AM = ("leaf", ("am",))
 LEAF_DQ = ("leaf", ("dq",))
-
-
-class Base:
-    """A base with the three methods that it must have, and no other one."""
-
-    def __init__(self, rows):
-        self.rows = rows
-
-    def has(self, name):
-        return isinstance(name, str) and name in [row[0] for row in self.rows]
-
-    def thing(self, name):
-        for row in self.rows:
-            if row[0] == name:
-                return row[1]
-        raise NoName("none")
-
-    def names(self):
-        return [row[0] for row in self.rows]
 
 
 def filled():
