@@ -71,14 +71,20 @@ def need_spans(old, rows):
 
 def patched(old, rows):
     need_spans(old, rows)
-    lines_done = []
+    return spans_done(old, rows)
+
+
+def spans_done(old, rows):
+    # Apart from the refusals, for spans that were made here: they fit, however
+    # long the lines are.
+    done = []
     place = 0
     for low, high, lines in rows:
-        lines_done.extend(old[place:low])
-        lines_done.extend(lines)
+        done.extend(old[place:low])
+        done.extend(lines)
         place = high
-    lines_done.extend(old[place:])
-    return tuple(lines_done)
+    done.extend(old[place:])
+    return tuple(done)
 
 
 def cost_of(rows):

@@ -1,5 +1,7 @@
 """What several test files hand in: stores, things, and what is none."""
 
+import itertools
+
 from annals.errors import NoName
 
 
@@ -30,6 +32,38 @@ class Base:
 
     def names(self):
         return [row[0] for row in self.rows]
+
+
+def plain(store):
+    """The same store, with the three methods alone."""
+    return Base([(name, store.thing(name)) for name in store.names()])
+
+
+def all_rows(signs, longest):
+    """Each row of at most so many of these lines."""
+    return [row for count in range(longest + 1) for row in itertools.product(signs, repeat=count)]
+
+
+def nested(files):
+    """The files as dicts within dicts, label by label."""
+    whole = {}
+    for path, lines in files.items():
+        labels = path.split("/")
+        inner = whole
+        for label in labels[:-1]:
+            inner = inner.setdefault(label, {})
+        inner[labels[-1]] = lines
+    return whole
+
+
+def families(paths, choices):
+    """The files of each form that these paths, with one of these lines or with None for nothing, can have."""
+    found = []
+    for choice in itertools.product((None,) + choices, repeat=len(paths)):
+        files = {path: lines for path, lines in zip(paths, choice) if lines is not None}
+        if not any(other.startswith(path + "/") for path in files for other in files):
+            found.append(files)
+    return found
 
 
 NO_TEXTS = (None, True, False, 0, 7, 1.5, b"a", [], ["a"], (), ("a",), {}, {"a": "b"}, set(), Odd(), str, len)

@@ -42,6 +42,7 @@ FORBIDDEN_NAMES = """
 WALKERS = "zip enumerate reversed range".split()
 WALKED_METHODS = "items keys values".split()
 WALKING = "list tuple dict sorted sum any all enumerate zip".split()
+CHANGES = "append clear extend insert pop remove reverse setdefault update add discard".split()
 
 FORBIDDEN_WORDS = re.compile(
     r"\b(type|typing|typing_extensions|enum|Enum|IntEnum|StrEnum|Flag|IntFlag|Generic|Protocol|ABC|ABCMeta"
@@ -177,6 +178,52 @@ def faults_of_walks(tree):
             yield f"line {node.lineno}: L23: not walked on the spot"
 
 
+def set_calls(node):
+    """The calls of set at a node, also with `-`, `&`, `|` or `^` between."""
+    if isinstance(node, ast.BinOp) and isinstance(node.op, (ast.Sub, ast.BitAnd, ast.BitOr, ast.BitXor)):
+        return set_calls(node.left) + set_calls(node.right)
+    return [node] if isinstance(node, ast.Call) and isinstance(node.func, ast.Name) and node.func.id == "set" else []
+
+
+def faults_of_sets(tree):
+    placed = []
+    for node in ast.walk(tree):
+        if isinstance(node, ast.Compare) and isinstance(node.ops[0], (ast.In, ast.NotIn, ast.Eq, ast.NotEq)):
+            placed.extend(call for side in [node.left] + node.comparators for call in set_calls(side))
+        if isinstance(node, ast.Call) and isinstance(node.func, ast.Name) and node.func.id in ("sorted", "len"):
+            if not node.keywords:
+                placed.extend(call for part in node.args for call in set_calls(part))
+    for node in ast.walk(tree):
+        if isinstance(node, ast.Call) and set_calls(node) and node not in placed:
+            yield f"line {node.lineno}: L24: a set that is kept or walked"
+
+
+def walked_names(node):
+    """The names of what a loop walks, itself or through a call such as enumerate or items."""
+    if isinstance(node, ast.Call):
+        inner = [node.func.value] if isinstance(node.func, ast.Attribute) else node.args
+        return [name for part in inner for name in walked_names(part)] if is_walker(node) else []
+    return [ast.unparse(node)] if isinstance(node, (ast.Name, ast.Attribute)) else []
+
+
+def changed_name(node):
+    """The name of what a node changes in its place, if it does."""
+    if isinstance(node, ast.Subscript) and isinstance(node.ctx, ast.Store):
+        return ast.unparse(node.value)
+    if isinstance(node, ast.Call) and isinstance(node.func, ast.Attribute) and node.func.attr in CHANGES:
+        return ast.unparse(node.func.value)
+    return None
+
+
+def faults_of_loops(tree):
+    for loop in ast.walk(tree):
+        if isinstance(loop, ast.For):
+            walked = walked_names(loop.iter)
+            for node in [inner for part in loop.body for inner in ast.walk(part)]:
+                if changed_name(node) in walked:
+                    yield f"line {node.lineno}: L23: what is walked is changed"
+
+
 def faults_of_locals(tree):
     taken = {alias.name for node in tree.body if isinstance(node, ast.ImportFrom) for alias in node.names}
     taken.update(node.name for node in tree.body if isinstance(node, (ast.FunctionDef, ast.ClassDef)))
@@ -223,6 +270,8 @@ def faults_of(text, main):
     yield from faults_of_text(text)
     tree = ast.parse(text)
     yield from faults_of_walks(tree)
+    yield from faults_of_sets(tree)
+    yield from faults_of_loops(tree)
     yield from faults_of_locals(tree)
     for name in sorted({name for name in bound_at_top(text) if bound_at_top(text).count(name) > 1}):
         yield f"L15: {name} is bound more than once"
@@ -274,7 +323,12 @@ class Language(unittest.TestCase):
                      "def f(n):\n    return reversed(range(n))\n", "def f(d):\n    x = d.items()\n    return x\n",
                      "def f(n):\n    for x in reversed(range(n)):\n        return x\n",
                      "from annals.a import b\ndef f(b):\n    return b\n", "def f():\n    f = 1\n    return f\n",
-                     "x = 1\nx = 2\n"):
+                     "x = 1\nx = 2\n", "def f(a):\n    b = set(a)\n    return b\n",
+                     "def f(a):\n    for b in set(a) | set(a):\n        return b\n",
+                     "def f(a):\n    return sorted(set(a), key=len)\n",
+                     "def f(a):\n    for b in a:\n        a.append(b)\n",
+                     "def f(a):\n    for b, c in a.items():\n        a[b] = c\n",
+                     "def f(a):\n    for b, c in enumerate(a):\n        a[b] = c\n"):
             with self.subTest(text):
                 self.assertNotEqual(list(faults_of(text, False)), [])
 

@@ -3,16 +3,10 @@
 import itertools
 import unittest
 
-from samples import NO_TEXTS
+from samples import NO_TEXTS, all_rows
 
 from annals.errors import NoFit
 from annals.lines import common_table, cost_of, kept_pairs, patched, spans_of
-
-
-def all_rows(signs, longest):
-    """Each row of at most so many of these lines."""
-    return [row for count in range(longest + 1) for row in itertools.product(signs, repeat=count)]
-
 
 ROWS = all_rows("ab", 4) + all_rows("abc", 3)
 PAIRS = [(old, new) for old in ROWS for new in ROWS]

@@ -4,7 +4,7 @@ import copy
 import itertools
 import unittest
 
-from samples import BAD_FILES, BAD_PATHS, GOOD_FILES, NO_TEXTS, Base
+from samples import BAD_FILES, BAD_PATHS, GOOD_FILES, NO_TEXTS, nested, plain
 
 from annals.errors import BadFiles, BadPath, NoFit, NoName
 from annals.shelf import Shelf
@@ -21,23 +21,6 @@ FILES = {
 }
 
 EMPTY_TREE = ("tree", ())
-
-
-def plain(store):
-    """The same store, with the three methods alone."""
-    return Base([(name, store.thing(name)) for name in store.names()])
-
-
-def nested(files):
-    """The files as dicts within dicts, label by label."""
-    whole = {}
-    for path, lines in files.items():
-        labels = path.split("/")
-        inner = whole
-        for label in labels[:-1]:
-            inner = inner.setdefault(label, {})
-        inner[labels[-1]] = lines
-    return whole
 
 
 def read(store, name):

@@ -1,0 +1,59 @@
+"""Versions: their trees, parents and words, what lies before them, and where two of them meet."""
+
+from annals.errors import NoVersion
+from annals.trees import names_form
+
+
+def note_of(store, name):
+    if not names_form(store, name, "note"):
+        raise NoVersion("the store has no version of this name")
+    return store.thing(name)
+
+
+def tree_of(store, name):
+    return note_of(store, name)[1]
+
+
+def parents_of(store, name):
+    return list(note_of(store, name)[2])
+
+
+def words_of(store, name):
+    return note_of(store, name)[3]
+
+
+def found_before(store, name):
+    note_of(store, name)
+    found = {name: True}
+    # A list of what is still to be looked at, in the place of calls within
+    # calls: a row of versions may be of any length.
+    left = [name]
+    while len(left) > 0:
+        version = left.pop()
+        for parent in parents_of(store, version):
+            if parent not in found:
+                found[parent] = True
+                left.append(parent)
+    return found
+
+
+def all_before(store, name):
+    found = found_before(store, name)
+    return [version for version in store.names() if version in found]
+
+
+def is_before(store, one, other):
+    note_of(store, one)
+    return one in found_before(store, other)
+
+
+def meeting_of(store, one, other):
+    before_one = found_before(store, one)
+    before_both = [version for version in all_before(store, other) if version in before_one]
+    # With a version all that lies before it lies before both, too: so what
+    # lies before another one of these is a parent of one of them.
+    passed = {}
+    for version in before_both:
+        for parent in parents_of(store, version):
+            passed[parent] = True
+    return [version for version in before_both if version not in passed]
