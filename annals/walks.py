@@ -10,12 +10,22 @@ def note_of(store, name):
     return store.thing(name)
 
 
+def need_version_or_none(store, name):
+    if name is not None:
+        note_of(store, name)
+
+
 def tree_of(store, name):
     return note_of(store, name)[1]
 
 
 def parents_of(store, name):
     return list(note_of(store, name)[2])
+
+
+def first_parent(store, name):
+    parents = parents_of(store, name)
+    return parents[0] if len(parents) > 0 else None
 
 
 def words_of(store, name):

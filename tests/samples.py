@@ -1,8 +1,12 @@
 """What several test files hand in: stores, things, and what is none."""
 
 import itertools
+import unittest
 
 from annals.errors import NoName
+from annals.shelf import Shelf
+from annals.trees import files_of, keep_files
+from annals.versions import Annals
 
 
 class Odd:
@@ -39,6 +43,12 @@ def plain(store):
     return Base([(name, store.thing(name)) for name in store.names()])
 
 
+def shaken(shelf):
+    """The same store with its names in another order."""
+    names = sorted(shelf.names(), key=lambda name: (name[::-1], name))
+    return Base([(name, shelf.thing(name)) for name in names])
+
+
 def all_rows(signs, longest):
     """Each row of at most so many of these lines."""
     return [row for count in range(longest + 1) for row in itertools.product(signs, repeat=count)]
@@ -56,6 +66,24 @@ def nested(files):
     return whole
 
 
+def read(store, name):
+    """What a name leads to, as dicts within dicts, by the store's things alone."""
+    thing = store.thing(name)
+    if thing[0] == "leaf":
+        return thing[1]
+    return {label: read(store, inner) for label, inner in thing[1]}
+
+
+def reached(store, name):
+    """The names that a name leads to, itself with them."""
+    thing = store.thing(name)
+    found = {name}
+    if thing[0] == "tree":
+        for label, inner in thing[1]:
+            found |= reached(store, inner)
+    return found
+
+
 def families(paths, choices):
     """The files of each form that these paths, with one of these lines or with None for nothing, can have."""
     found = []
@@ -66,7 +94,108 @@ def families(paths, choices):
     return found
 
 
+# Lines, others that came of them at either end, what comes where both are
+# joined, and some that clash with the first of these.
+A = ("a", "b", "c")
+LOW = ("x", "b", "c")
+HIGH = ("a", "b", "y")
+BOTH = ("x", "b", "y")
+OTHER = ("z", "b", "c")
+
+# Versions by their parents, each behind those: rows, branches, joins, joins
+# across, and some that have nothing to do with others.
+SHAPES = (
+    {"a": ""},
+    {"a": "", "b": ""},
+    {"a": "", "b": "a", "c": "b", "d": "c"},
+    {"a": "", "b": "a", "c": "a", "d": "bc"},
+    {"a": "", "b": "a", "c": "a", "d": "bc", "e": "cb"},
+    {"a": "", "b": "a", "c": "a", "d": "bc", "e": "cb", "f": "de", "g": "e", "h": "d"},
+    {"a": "", "b": "", "c": "ab", "d": "ba", "e": "a", "f": "b", "g": "ef"},
+    {"a": "", "b": "a", "c": "b", "d": "ac", "e": "a", "f": "eb", "g": "df"},
+    {"a": "", "b": "", "c": "a", "d": "b", "e": "a", "f": "b"},
+)
+
+
+def filled(shape, files={}):
+    """A shelf with the versions of a shape, of the files of their letters, and their names by these letters."""
+    shelf = Shelf(None)
+    names = {}
+    for letter, parents in shape.items():
+        tree = keep_files(shelf, files.get(letter, {}))
+        names[letter] = shelf.put(("note", tree, tuple(names[parent] for parent in parents), letter))
+    return shelf, names
+
+
+def grown(shape, files={}):
+    """Annals upon such a shelf, and the names."""
+    shelf, names = filled(shape, files)
+    annals = Annals()
+    annals.stand_on(shelf)
+    return annals, names
+
+
+def begun(shape, files, heads):
+    """Such annals with branches at the letters, or at nothing, and the names."""
+    annals, names = grown(shape, files)
+    for label, letter in heads.items():
+        annals.begin(label, names.get(letter))
+    return annals, names
+
+
+def lies_before(shape, one, other):
+    """As 5.2 has it."""
+    return one == other or any(lies_before(shape, one, parent) for parent in shape[other])
+
+
+def told_meeting(shape, one, other):
+    both = [letter for letter in shape if lies_before(shape, letter, one) and lies_before(shape, letter, other)]
+    return [letter for letter in both
+            if not any(lies_before(shape, letter, another) for another in both if another != letter)]
+
+
+def no_versions(store):
+    """What is no version of a store: what is no text, texts that it hasn't, its leaves and its trees."""
+    names = store.names()
+    near = [other for name in names for other in (name + "0", name[:-1]) if other not in names]
+    others = [name for name in names if store.thing(name)[0] != "note"]
+    return [*NO_TEXTS, "", "a", "N0.99", *near, *others]
+
+
+def unfolded(store, version):
+    """What a version is, with no name in it: its files, its parents unfolded, and its words."""
+    word, tree, parents, words = store.thing(version)
+    return files_of(store, tree), tuple(unfolded(store, parent) for parent in parents), words
+
+
+def state(annals):
+    """All that annals have: their branches, and their shelf's names with the things that they are names of."""
+    return annals.branches(), [(name, annals.shelf.thing(name)) for name in annals.shelf.names()]
+
+
+class AnnalsCase(unittest.TestCase):
+
+    def need_untouched(self, annals, ask):
+        """What is asked is told, and changes nothing."""
+        kept = state(annals)
+        told = ask()
+        self.assertEqual(state(annals), kept)
+        return told
+
+    def need_refused(self, annals, error, ask):
+        """What is asked is refused with this very error, and changes nothing."""
+        kept = state(annals)
+        with self.assertRaises(error) as caught:
+            ask()
+        self.assertIs(caught.exception.__class__, error)
+        self.assertEqual(state(annals), kept)
+
+
 NO_TEXTS = (None, True, False, 0, 7, 1.5, b"a", [], ["a"], (), ("a",), {}, {"a": "b"}, set(), Odd(), str, len)
+
+# What is no line, and what is no label, of anything.
+NO_LINES = NO_TEXTS + ("a" * 21, "a\nb", "a\n", "\t", "\x7f", "\u00e9", "5%")
+NO_LABELS = NO_TEXTS + ("", "abcdefghi", "A", "a1", "a b", " a", "a ", "a/b", "a\n", "\u00e9", "\u0430", "5%")
 
 GOOD_LEAVES = (
     ("leaf", ()),

@@ -44,6 +44,10 @@ WALKED_METHODS = "items keys values".split()
 WALKING = "list tuple dict sorted sum any all enumerate zip".split()
 CHANGES = "append clear extend insert pop remove reverse setdefault update add discard".split()
 
+NO_VALUES = """
+    items keys values pop update append clear extend insert remove reverse setdefault sort args encode format
+""".split()
+
 FORBIDDEN_WORDS = re.compile(
     r"\b(type|typing|typing_extensions|enum|Enum|IntEnum|StrEnum|Flag|IntFlag|Generic|Protocol|ABC|ABCMeta"
     r"|namedtuple|NamedTuple|TypedDict|TYPE_CHECKING|abstractmethod)\b|dataclass|overload|contextmanager")
@@ -135,8 +139,10 @@ def faults_of_forms(node):
         yield "L6: else behind a loop"
     if isinstance(node, ast.Try) and node.finalbody:
         yield "L6: finally"
-    if isinstance(node, ast.Assign) and len(node.targets) > 1:
+    if isinstance(node, ast.Assign) and (len(node.targets) > 1 or isinstance(node.targets[0], (ast.Tuple, ast.List))):
         yield "L6: several targets"
+    if isinstance(node, ast.Attribute) and isinstance(node.ctx, ast.Store) and node.attr in NO_VALUES:
+        yield f"L26: a value is called {node.attr}"
     if isinstance(node, ast.ListComp) and (len(node.generators) > 1 or len(node.generators[0].ifs) > 1):
         yield "L7: a comprehension with more than a for and an if"
     if isinstance(node, ast.Constant) and isinstance(node.value, (float, complex, bytes)):
@@ -266,6 +272,16 @@ def faults_of_drawing(texts):
                     yield f"L16: {module} draws {name}, which {other} does not define"
 
 
+def faults_of_classes(texts):
+    """The package's classes together: no name is a method in one and a value in another."""
+    nodes = [node for text in texts.values() for node in ast.walk(ast.parse(text))]
+    methods = {part.name for node in nodes if isinstance(node, ast.ClassDef)
+               for part in node.body if isinstance(part, ast.FunctionDef)}
+    values = {node.attr for node in nodes if isinstance(node, ast.Attribute) and isinstance(node.ctx, ast.Store)}
+    for name in sorted(methods & values):
+        yield f"L18: {name} is a method and a value"
+
+
 def faults_of(text, main):
     yield from faults_of_text(text)
     tree = ast.parse(text)
@@ -306,6 +322,13 @@ class Language(unittest.TestCase):
     def test_the_files_draw_from_one_another_by_the_rules(self):
         texts = {"annals." + path.stem: path.read_text(encoding="utf-8") for path in PACKAGE.glob("*.py")}
         self.assertEqual(list(faults_of_drawing(texts)), [])
+        self.assertEqual(list(faults_of_classes(texts)), [])
+
+    def test_faults_of_classes_are_found(self):
+        method = "class A:\n    def name(self):\n        return 1\n"
+        value = "class B:\n    def __init__(self):\n        self.name = 1\n"
+        self.assertEqual(len(list(faults_of_classes({"annals.a": method, "annals.b": value}))), 1)
+        self.assertEqual(list(faults_of_classes({"annals.a": method, "annals.b": method})), [])
 
     def test_faults_of_drawing_are_found(self):
         for texts in ({"annals.a": "from annals.b import f\n", "annals.b": "from annals.a import f\n"},
@@ -315,7 +338,7 @@ class Language(unittest.TestCase):
                 self.assertNotEqual(list(faults_of_drawing(texts)), [])
 
     def test_faults_are_found(self):
-        for text in ("x = 1.5\n", "x = y = 1\n", "import os\n", "from .a import b\n", "x = f'{1 + 1}'\n",
+        for text in ("x = 1.5\n", "x = y = 1\n", "x, y = z\n", "import os\n", "from .a import b\n", "x = f'{1 + 1}'\n",
                      "def f(*a):\n    return 1\n", "def f(list):\n    return 1\n", "x = a is b\n", "x = '5%'\n",
                      "x = 'a'.encode()\n", "x = hash(1)\n", "x = {1: 2 for a in b}\n", "def _f():\n    return 1\n",
                      "# a type\n", "x = '\u00e9'\n", "x = [a for b in c for a in b]\n", "class A:\n    x = 1\n",
@@ -323,7 +346,7 @@ class Language(unittest.TestCase):
                      "def f(n):\n    return reversed(range(n))\n", "def f(d):\n    x = d.items()\n    return x\n",
                      "def f(n):\n    for x in reversed(range(n)):\n        return x\n",
                      "from annals.a import b\ndef f(b):\n    return b\n", "def f():\n    f = 1\n    return f\n",
-                     "x = 1\nx = 2\n", "def f(a):\n    b = set(a)\n    return b\n",
+                     "def f(a):\n    a.items = 1\n", "x = 1\nx = 2\n", "def f(a):\n    b = set(a)\n    return b\n",
                      "def f(a):\n    for b in set(a) | set(a):\n        return b\n",
                      "def f(a):\n    return sorted(set(a), key=len)\n",
                      "def f(a):\n    for b in a:\n        a.append(b)\n",

@@ -4,16 +4,10 @@ import copy
 import itertools
 import unittest
 
-from samples import GOOD_FILES, families
+from samples import A, BOTH, GOOD_FILES, HIGH, LOW, OTHER, families
 
 from annals.joins import clean_lines, joined_lines
 from annals.sides import joined_files
-
-A = ("a", "b", "c")
-LOW = ("x", "b", "c")
-HIGH = ("a", "b", "y")
-BOTH = ("x", "b", "y")
-OTHER = ("z", "b", "c")
 
 STATES = (None, (), A, LOW, HIGH, OTHER)
 

@@ -3,7 +3,7 @@
 import copy
 import unittest
 
-from samples import GOOD_LEAVES, GOOD_NOTES, GOOD_THINGS, GOOD_TREES, NO_TEXTS, NO_THINGS
+from samples import GOOD_LEAVES, GOOD_NOTES, GOOD_THINGS, GOOD_TREES, NO_LINES, NO_TEXTS, NO_THINGS
 
 from annals.errors import AnnalsError, BadLine, NoName, NoThing
 from annals.things import digest, is_label, is_line, is_lines, names_in, need_thing, spelled
@@ -47,7 +47,7 @@ class Lines(unittest.TestCase):
                 self.assertIs(is_lines(lines), True)
 
     def test_a_tuple_with_one_that_is_no_line_is_no_lines(self):
-        for wrong in NO_TEXTS + ("a" * 21, "a\nb", "\t", "\x7f", "5%"):
+        for wrong in NO_LINES:
             for lines in ((wrong,), ("a", wrong), (wrong, "a"), ("a", wrong, "b")):
                 with self.subTest(kind=str(wrong.__class__)):
                     self.assertIs(is_lines(lines), False)

@@ -4,7 +4,7 @@ import copy
 import itertools
 import unittest
 
-from samples import BAD_FILES, BAD_PATHS, GOOD_FILES, NO_TEXTS, nested, plain
+from samples import BAD_FILES, BAD_PATHS, GOOD_FILES, NO_TEXTS, nested, plain, reached, read
 
 from annals.errors import BadFiles, BadPath, NoFit, NoName
 from annals.shelf import Shelf
@@ -21,24 +21,6 @@ FILES = {
 }
 
 EMPTY_TREE = ("tree", ())
-
-
-def read(store, name):
-    """What a name leads to, as dicts within dicts, by the store's things alone."""
-    thing = store.thing(name)
-    if thing[0] == "leaf":
-        return thing[1]
-    return {label: read(store, inner) for label, inner in thing[1]}
-
-
-def reached(store, name):
-    """The names that a name leads to, itself with them."""
-    thing = store.thing(name)
-    found = {name}
-    if thing[0] == "tree":
-        for label, inner in thing[1]:
-            found |= reached(store, inner)
-    return found
 
 
 def on_the_way(store, root, path):

@@ -3,52 +3,11 @@
 import itertools
 import unittest
 
-from samples import NO_TEXTS, Base, plain
+from samples import SHAPES, Base, filled, lies_before, no_versions, plain, shaken, told_meeting
 
 from annals.errors import NoVersion
 from annals.shelf import Shelf
 from annals.walks import all_before, is_before, meeting_of, parents_of, tree_of, words_of
-
-# Versions by their parents, each behind those: rows, branches, joins, joins
-# across, and some that have nothing to do with others.
-SHAPES = (
-    {"a": ""},
-    {"a": "", "b": ""},
-    {"a": "", "b": "a", "c": "b", "d": "c"},
-    {"a": "", "b": "a", "c": "a", "d": "bc"},
-    {"a": "", "b": "a", "c": "a", "d": "bc", "e": "cb"},
-    {"a": "", "b": "a", "c": "a", "d": "bc", "e": "cb", "f": "de", "g": "e", "h": "d"},
-    {"a": "", "b": "", "c": "ab", "d": "ba", "e": "a", "f": "b", "g": "ef"},
-    {"a": "", "b": "a", "c": "b", "d": "ac", "e": "a", "f": "eb", "g": "df"},
-    {"a": "", "b": "", "c": "a", "d": "b", "e": "a", "f": "b"},
-)
-
-
-def filled(shape):
-    """A shelf with the versions of a shape, and their names by its letters."""
-    shelf = Shelf(None)
-    tree = shelf.put(("tree", ()))
-    names = {}
-    for letter, parents in shape.items():
-        names[letter] = shelf.put(("note", tree, tuple(names[parent] for parent in parents), letter))
-    return shelf, names
-
-
-def lies_before(shape, one, other):
-    """As 5.2 has it."""
-    return one == other or any(lies_before(shape, one, parent) for parent in shape[other])
-
-
-def told_meeting(shape, one, other):
-    both = [letter for letter in shape if lies_before(shape, letter, one) and lies_before(shape, letter, other)]
-    return [letter for letter in both
-            if not any(lies_before(shape, letter, another) for another in both if another != letter)]
-
-
-def shaken(shelf):
-    """The same store with its names in another order."""
-    names = sorted(shelf.names(), key=lambda name: (name[::-1], name))
-    return Base([(name, shelf.thing(name)) for name in names])
 
 
 class Notes(unittest.TestCase):
@@ -111,9 +70,8 @@ class Notes(unittest.TestCase):
 
     def test_what_is_no_version(self):
         names = self.shelf.names()
-        wrong = NO_TEXTS + ("", "a", "N0.99", self.first + "0", self.first[:-1], self.leaf, self.tree, self.empty)
         for store in (self.shelf, plain(self.shelf)):
-            for name in wrong:
+            for name in no_versions(self.shelf):
                 for asked in (lambda: tree_of(store, name), lambda: parents_of(store, name),
                               lambda: words_of(store, name), lambda: all_before(store, name),
                               lambda: is_before(store, name, self.first), lambda: is_before(store, self.first, name),
