@@ -36,6 +36,11 @@ def add_at(store, path, before, after, rows):
     return len(trees) + add_beneath(store, path + "/", beneath[0], beneath[1], rows)
 
 
+def rows_between(before, after):
+    paths = sorted(set(before) | set(after))
+    return [(path, before.get(path), after.get(path)) for path in paths if before.get(path) != after.get(path)]
+
+
 def read_rows(store, rows):
     return [(path, lines_at(store, before), lines_at(store, after)) for path, before, after in rows]
 

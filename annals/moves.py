@@ -2,13 +2,17 @@
 
 from annals.errors import Clash
 from annals.sides import joined_files
-from annals.versions import files_at, noted
+from annals.versions import files_at, files_or_none, noted
 from annals.walks import first_parent, is_before, meeting_of, words_of
 
 
-def base_of(store, one, other):
+def first_meeting(store, one, other):
     meeting = meeting_of(store, one, other)
-    return files_at(store, meeting[0]) if len(meeting) > 0 else {}
+    return meeting[0] if len(meeting) > 0 else None
+
+
+def base_of(store, one, other):
+    return files_or_none(store, first_meeting(store, one, other))
 
 
 def joined_by_base(store, one, other):
@@ -43,16 +47,13 @@ def join_heads(annals, branch, other):
     return "joined"
 
 
-def files_ahead(store, version):
-    parent = first_parent(store, version)
-    return {} if parent is None else files_at(store, parent)
-
-
 def carried(annals, version, onto):
     shelf = annals.shelf
+    yours = files_at(shelf, version)
+    base = files_or_none(shelf, first_parent(shelf, version))
     mine = files_at(shelf, onto)
     # What is joined has its paths rising, and is kept in this order.
-    files = need_clean(joined_files(files_ahead(shelf, version), mine, files_at(shelf, version)))
+    files = need_clean(joined_files(base, mine, yours))
     if files == mine:
         return onto
     return noted(shelf, files, [onto], words_of(shelf, version))

@@ -1,6 +1,7 @@
 """Shelves, which keep things by names."""
 
 from annals.errors import NoName
+from annals.names import is_key, need_name
 from annals.things import digest, letter_of, need_thing
 
 
@@ -50,12 +51,10 @@ class Shelf:
             raise NoName("a name within is one of another form")
 
     def has(self, name):
-        # Asked first, since what is no text may be nothing that a dict takes.
-        return isinstance(name, str) and name in self.thing_by_name
+        return is_key(self.thing_by_name, name)
 
     def thing(self, name):
-        if not self.has(name):
-            raise NoName("the shelf has no such name")
+        need_name(self, name)
         return self.thing_by_name[name]
 
     def names(self):

@@ -1,6 +1,7 @@
 """Annals: a shelf of versions, and branches that are at them."""
 
 from annals.errors import BadBranch, BadLine, NoBranch
+from annals.names import is_key
 from annals.paths import need_files
 from annals.shelf import Shelf
 from annals.things import is_label, is_line
@@ -16,6 +17,10 @@ def files_at(store, version):
     return files_of(store, tree_of(store, version))
 
 
+def files_or_none(store, version):
+    return {} if version is None else files_at(store, version)
+
+
 class Annals:
 
     def __init__(self):
@@ -29,8 +34,7 @@ class Annals:
         return [(label, self.heads[label]) for label in sorted(self.heads)]
 
     def has_branch(self, branch):
-        # Asked first, since what is no text may be nothing that a dict takes.
-        return is_label(branch) and branch in self.heads
+        return is_key(self.heads, branch)
 
     def begin(self, branch, version):
         if not is_label(branch) or self.has_branch(branch):

@@ -1,6 +1,7 @@
 """Versions: their trees, parents and words, what lies before them, and where two of them meet."""
 
 from annals.errors import NoVersion
+from annals.reach import add_found, in_order
 from annals.trees import names_form
 
 
@@ -32,24 +33,23 @@ def words_of(store, name):
     return note_of(store, name)[3]
 
 
+def parents_in(note):
+    return note[2]
+
+
+def add_before(store, found, name):
+    add_found(store, found, [name], parents_in)
+
+
 def found_before(store, name):
     note_of(store, name)
-    found = {name: True}
-    # A list of what is still to be looked at, in the place of calls within
-    # calls: a row of versions may be of any length.
-    left = [name]
-    while len(left) > 0:
-        version = left.pop()
-        for parent in parents_of(store, version):
-            if parent not in found:
-                found[parent] = True
-                left.append(parent)
+    found = {}
+    add_before(store, found, name)
     return found
 
 
 def all_before(store, name):
-    found = found_before(store, name)
-    return [version for version in store.names() if version in found]
+    return in_order(store, found_before(store, name))
 
 
 def is_before(store, one, other):

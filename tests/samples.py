@@ -5,6 +5,7 @@ import unittest
 
 from annals.errors import NoName
 from annals.shelf import Shelf
+from annals.sides import joined_files
 from annals.trees import files_of, keep_files
 from annals.versions import Annals
 
@@ -74,14 +75,18 @@ def read(store, name):
     return {label: read(store, inner) for label, inner in thing[1]}
 
 
-def reached(store, name):
+def led_to(store, name):
     """The names that a name leads to, itself with them."""
     thing = store.thing(name)
-    found = {name}
-    if thing[0] == "tree":
-        for label, inner in thing[1]:
-            found |= reached(store, inner)
-    return found
+    if thing[0] == "leaf":
+        return {name}
+    inner = [row[1] for row in thing[1]] if thing[0] == "tree" else [thing[1], *thing[2]]
+    return {name}.union(*[led_to(store, other) for other in inner])
+
+
+def told_reached(store, roots):
+    """What is reached by the words of P1."""
+    return [name for name in store.names() if any(name in led_to(store, root) for root in roots)]
 
 
 def families(paths, choices):
@@ -92,6 +97,22 @@ def families(paths, choices):
         if not any(other.startswith(path + "/") for path in files for other in files):
             found.append(files)
     return found
+
+
+def told_rows(one, other):
+    """The rows of changes between files, with lines, as C5 has them."""
+    return [(path, one.get(path), other.get(path)) for path in sorted({**one, **other})
+            if one.get(path) != other.get(path)]
+
+
+def told_opened(one, other):
+    """How many trees C6 has opened, of what stands at a place in both: lines, dicts for trees, or None."""
+    if one == other:
+        return 0
+    ones = one if isinstance(one, dict) else {}
+    others = other if isinstance(other, dict) else {}
+    here = isinstance(one, dict) + isinstance(other, dict)
+    return here + sum(told_opened(ones.get(label), others.get(label)) for label in {**ones, **others})
 
 
 # Lines, others that came of them at either end, what comes where both are
@@ -148,10 +169,21 @@ def lies_before(shape, one, other):
     return one == other or any(lies_before(shape, one, parent) for parent in shape[other])
 
 
+def told_way(shape, high):
+    """The versions that one comes to from high by first parents, high first."""
+    return [high] + (told_way(shape, shape[high][0]) if shape[high] else [])
+
+
 def told_meeting(shape, one, other):
     both = [letter for letter in shape if lies_before(shape, letter, one) and lies_before(shape, letter, other)]
     return [letter for letter in both
             if not any(lies_before(shape, letter, another) for another in both if another != letter)]
+
+
+def no_names(store):
+    """What is no name of a store, of anything."""
+    names = store.names()
+    return [*NO_TEXTS, "", "L0.99", *[name + "0" for name in names if name + "0" not in names]]
 
 
 def no_versions(store):
@@ -166,6 +198,77 @@ def unfolded(store, version):
     """What a version is, with no name in it: its files, its parents unfolded, and its words."""
     word, tree, parents, words = store.thing(version)
     return files_of(store, tree), tuple(unfolded(store, parent) for parent in parents), words
+
+
+class Model:
+    """Annals by the words of 5.3 and 6.1 to 6.5: a version is a tuple of files, parents and words, and has no name."""
+
+    def __init__(self, heads):
+        self.kept = []
+        self.heads = dict(heads)
+
+    def note(self, files, parents, words):
+        version = (files, parents, words)
+        if version not in self.kept:
+            self.kept.append(version)
+        return version
+
+    def before(self, version):
+        """Each version that lies before one, as often as one comes to it."""
+        return [version] + [other for parent in version[1] for other in self.before(parent)]
+
+    def keep(self, branch, files, words):
+        head = self.heads[branch]
+        self.heads[branch] = self.note(files, () if head is None else (head,), words)
+        return "kept"
+
+    def meeting(self, one, other):
+        """The first place where two versions meet, or None."""
+        both = [version for version in self.before(one) if version in self.before(other)]
+        met = [version for version in both if not any(version in self.before(near) for near in both if near != version)]
+        return min(met, key=self.kept.index, default=None)
+
+    def joined(self, one, other):
+        meeting = self.meeting(one, other)
+        return joined_files({} if meeting is None else meeting[0], one[0], other[0])
+
+    def join(self, branch, other):
+        mine = self.heads[branch]
+        yours = self.heads[other]
+        if yours is None or (mine is not None and yours in self.before(mine)):
+            return "nothing"
+        if mine is None or mine in self.before(yours):
+            self.heads[branch] = yours
+            return "moved"
+        files, clashes = self.joined(mine, yours)
+        if clashes:
+            return "clash"
+        self.heads[branch] = self.note(files, (mine, yours), "join")
+        return "joined"
+
+    def way(self, version):
+        """The versions that one comes to by first parents, this one first."""
+        return [version] + (self.way(version[1][0]) if version[1] else [])
+
+    def carry(self, branch, other, low=None):
+        """A branch's row from low, or the whole of it, carried onto another branch's version."""
+        last = self.heads[other]
+        if last is None:
+            return "no version"
+        if self.heads[branch] is None:
+            return "no fit"
+        way = self.way(self.heads[branch])
+        if low is not None and low not in way:
+            return "no fit"
+        for version in reversed(way if low is None else way[:way.index(low)]):
+            base = version[1][0][0] if version[1] else {}
+            files, clashes = joined_files(base, last[0], version[0])
+            if clashes:
+                return "clash"
+            if files != last[0]:
+                last = self.note(files, (last,), version[2])
+        self.heads[branch] = last
+        return "carried"
 
 
 def state(annals):

@@ -3,7 +3,7 @@
 import copy
 import unittest
 
-from samples import GOOD_FILES, NO_TEXTS, Base, families, nested, plain
+from samples import GOOD_FILES, NO_TEXTS, Base, families, nested, plain, told_opened, told_rows
 
 from annals.changes import changes_of, read_rows, rows_done, rows_turned
 from annals.errors import BadFiles, NoFit, NoName
@@ -47,22 +47,6 @@ def pairs_of_files():
 
 
 PAIRS = pairs_of_files()
-
-
-def told_rows(one, other):
-    """The rows of changes between files, with lines, as C5 has them."""
-    return [(path, one.get(path), other.get(path)) for path in sorted({**one, **other})
-            if one.get(path) != other.get(path)]
-
-
-def told_opened(one, other):
-    """How many trees C6 has opened, of what stands at a place in both: lines, dicts for trees, or None."""
-    if one == other:
-        return 0
-    ones = one if isinstance(one, dict) else {}
-    others = other if isinstance(other, dict) else {}
-    here = isinstance(one, dict) + isinstance(other, dict)
-    return here + sum(told_opened(ones.get(label), others.get(label)) for label in {**ones, **others})
 
 
 def changed(files, changes):

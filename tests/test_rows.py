@@ -3,23 +3,17 @@
 import itertools
 import unittest
 
-from samples import (A, BOTH, HIGH, LOW, OTHER, SHAPES, AnnalsCase, Base, begun, filled, grown, no_versions, plain,
-                     shaken, state, unfolded)
+from samples import (A, BOTH, HIGH, LOW, OTHER, SHAPES, AnnalsCase, Base, Model, begun, filled, grown, no_versions,
+                     plain, shaken, state, told_way, unfolded)
 
 from annals.errors import Clash, NoBranch, NoFit, NoVersion
 from annals.moves import carried, join_heads
 from annals.rows import carry_row, row_of
 from annals.shelf import Shelf
-from annals.sides import joined_files
 from annals.versions import Annals, noted
 
 # A row, and one beside it; d comes of a join.
 ROW = {"a": "", "b": "a", "c": "b", "s": "a", "d": "cs", "e": "d", "t": ""}
-
-
-def told_way(shape, high):
-    """The versions that one comes to from high by first parents, high first."""
-    return [high] + (told_way(shape, shape[high][0]) if shape[high] else [])
 
 
 def told_row(shape, low, high):
@@ -345,67 +339,6 @@ class Refused(CarryCase):
             self.need_refused(annals, NoFit, lambda: carry_row(annals, "none", low, names["s"]))
 
 
-class Model:
-    """Annals by the words of 5.3 and 6.1 to 6.5: a version is a tuple of files, parents and words, and has no name."""
-
-    def __init__(self):
-        self.kept = []
-        self.heads = {"one": None, "two": None}
-
-    def note(self, files, parents, words):
-        version = (files, parents, words)
-        if version not in self.kept:
-            self.kept.append(version)
-        return version
-
-    def before(self, version):
-        return [version] + [other for parent in version[1] for other in self.before(parent)]
-
-    def keep(self, branch, files, words):
-        head = self.heads[branch]
-        self.heads[branch] = self.note(files, () if head is None else (head,), words)
-        return "kept"
-
-    def base(self, one, other):
-        both = [version for version in self.before(one) if version in self.before(other)]
-        met = [version for version in both if not any(version in self.before(near) for near in both if near != version)]
-        return min(met, key=self.kept.index)[0] if met else {}
-
-    def join(self, branch, other):
-        mine = self.heads[branch]
-        yours = self.heads[other]
-        if yours is None or (mine is not None and yours in self.before(mine)):
-            return "nothing"
-        if mine is None or mine in self.before(yours):
-            self.heads[branch] = yours
-            return "moved"
-        files, clashes = joined_files(self.base(mine, yours), mine[0], yours[0])
-        if clashes:
-            return "clash"
-        self.heads[branch] = self.note(files, (mine, yours), "join")
-        return "joined"
-
-    def carry(self, branch, other):
-        """The whole row of a branch, carried onto another one's version."""
-        last = self.heads[other]
-        if last is None:
-            return "no version"
-        if self.heads[branch] is None:
-            return "no fit"
-        row = [self.heads[branch]]
-        while row[0][1]:
-            row.insert(0, row[0][1][0])
-        for version in row:
-            base = version[1][0][0] if version[1] else {}
-            files, clashes = joined_files(base, last[0], version[0])
-            if clashes:
-                return "clash"
-            if files != last[0]:
-                last = self.note(files, (last,), version[2])
-        self.heads[branch] = last
-        return "carried"
-
-
 def done(annals, step):
     """A step done to annals, and the word for what came of it."""
     try:
@@ -442,7 +375,7 @@ class Steps(unittest.TestCase):
         for behind in itertools.product(STEPS, repeat=count):
             steps = ahead + behind
             annals = Annals()
-            model = Model()
+            model = Model({"one": None, "two": None})
             for label in model.heads:
                 annals.begin(label, None)
             told = [done(annals, step) for step in steps]

@@ -4,7 +4,7 @@ import copy
 import itertools
 import unittest
 
-from samples import BAD_FILES, BAD_PATHS, GOOD_FILES, NO_TEXTS, nested, plain, reached, read
+from samples import BAD_FILES, BAD_PATHS, GOOD_FILES, NO_TEXTS, led_to, nested, plain, read
 
 from annals.errors import BadFiles, BadPath, NoFit, NoName
 from annals.shelf import Shelf
@@ -105,7 +105,7 @@ class KeptFiles(TreeCase):
                 with self.subTest(files):
                     before = shelf.names()
                     root = keep_files(shelf, files)
-                    self.need_names(shelf, before, reached(shelf, root))
+                    self.need_names(shelf, before, led_to(shelf, root))
 
     def test_no_tree_without_rows_but_the_root_of_no_files(self):
         for files in GOOD_FILES + (FILES,):

@@ -3,8 +3,8 @@
 import copy
 import unittest
 
-from samples import (BAD_FILES, GOOD_FILES, NO_LABELS, NO_LINES, NO_TEXTS, AnnalsCase, nested, no_versions, plain,
-                     reached, read, shaken, state, unfolded)
+from samples import (BAD_FILES, GOOD_FILES, NO_LABELS, NO_LINES, NO_TEXTS, AnnalsCase, led_to, nested, no_versions,
+                     plain, read, shaken, state, unfolded)
 
 from annals.errors import BadBranch, BadFiles, BadLine, NoBranch, NoVersion
 from annals.shelf import Shelf
@@ -25,7 +25,7 @@ class Noted(unittest.TestCase):
             name = noted(shelf, files, [], "some words")
             root = keep_files(shelf, files)
             self.assertEqual(shelf.thing(name), ("note", root, (), "some words"))
-            self.assertEqual(set(shelf.names()), reached(shelf, root) | {name})
+            self.assertEqual(set(shelf.names()), led_to(shelf, root) | {name})
             self.assertEqual(shelf.names()[-1], name)
 
     def test_parents(self):
@@ -130,7 +130,7 @@ class Kept(AnnalsCase):
             told = self.annals.shelf.names()
             root = self.annals.shelf.thing(version)[1]
             self.assertEqual(told[:len(names)], names)
-            self.assertEqual(set(told), set(names) | reached(self.annals.shelf, root) | {version})
+            self.assertEqual(set(told), set(names) | led_to(self.annals.shelf, root) | {version})
 
     def test_the_same_files_once_more_are_another_version(self):
         first = self.annals.keep("main", FILES, "w")
